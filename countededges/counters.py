@@ -1,0 +1,94 @@
+"""Counters of a program, and sets of them."""
+
+from countededges.errors import BadArgument, BadCounter, BadWay
+from countededges.programs import require_program
+
+
+def all_counters(program):
+    """The list of all counters of a program: ways, places, stops, each ascending, then runs."""
+    require_program(program)
+    ways = [("way", way) for way in program.ways()]
+    places = [("place", place) for place in program.places()]
+    stops = [("stop", place) for place in program.exits()]
+    return [*ways, *places, *stops, ("runs",)]
+
+
+def is_known(value, known):
+    """Whether any value is one of these counters."""
+    # Only tuples of texts are compared: other values may compare in ways of their own.
+    if not isinstance(value, tuple) or not all([isinstance(part, str) for part in value]):
+        return False
+    return value in known
+
+
+def is_counter(program, value):
+    """Whether any value is a counter of a program."""
+    return is_known(value, all_counters(program))
+
+
+class Counters:
+    """A set of counters of one program; it never changes."""
+
+    def __init__(self, program, *counters):
+        known = all_counters(program)
+        for at, counter in enumerate(counters):
+            if not is_known(counter, known) or counter in counters[:at]:
+                raise BadCounter(counter)
+        self.base = program
+        self.chosen = [counter for counter in known if counter in counters]
+
+    @property
+    def program(self):
+        """The program whose counters these are."""
+        return self.base
+
+    def listed(self):
+        """The list of the counters of the set, in order."""
+        return list(self.chosen)
+
+    def __len__(self):
+        return len(self.chosen)
+
+    def __contains__(self, x):
+        return is_known(x, self.chosen)
+
+    def __add__(self, other):
+        require_partner(self, other)
+        more = [counter for counter in other.chosen if counter not in self.chosen]
+        return Counters(self.base, *self.chosen, *more)
+
+    def __iadd__(self, other):
+        return self + other
+
+    def __sub__(self, other):
+        require_partner(self, other)
+        rest = [counter for counter in self.chosen if counter not in other.chosen]
+        return Counters(self.base, *rest)
+
+    def __isub__(self, other):
+        return self - other
+
+    def __eq__(self, other):
+        return isinstance(other, Counters) and self.base == other.base and self.chosen == other.chosen
+
+    @staticmethod
+    def of_ways(program, *ways):
+        """The set of the counters of some ways of a program."""
+        require_program(program)
+        for at, way in enumerate(ways):
+            if way not in program or way in ways[:at]:
+                raise BadWay(way)
+        counters = [("way", way) for way in ways]
+        return Counters(program, *counters)
+
+    @staticmethod
+    def everything(program):
+        """The set of all counters of a program."""
+        counters = all_counters(program)
+        return Counters(program, *counters)
+
+
+def require_partner(one, other):
+    """Raises BadArgument for any value that is no Counters of a program equal to that of one."""
+    if not isinstance(other, Counters) or one.base != other.base:
+        raise BadArgument(other)

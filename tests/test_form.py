@@ -1,0 +1,178 @@
+"""Tests of the form of the package: the interface, and those rules of the language that can be read off the code."""
+
+import ast
+import builtins
+import importlib
+import inspect
+import pathlib
+import re
+import unittest
+
+PACKAGE = pathlib.Path(__file__).resolve().parent.parent / "countededges"
+FILES = sorted(PACKAGE.glob("*.py"))
+
+# The functions and methods of the document's interface, by file, with their parameters.
+INTERFACE = {
+    "programs": {
+        "is_word": ["value"], "is_run": ["program", "value"], "stop_of": ["program", "run"],
+        "runs_to": ["program", "most"], "Program.__init__": ["self", "ways", "begin", "exits"],
+        "Program.ways": ["self"], "Program.places": ["self"], "Program.exits": ["self"],
+        "Program.leaving": ["self", "place"], "Program.entering": ["self", "place"],
+        "Program.find_ring": ["self"], "Program.row": ["*ways"],
+    },
+    "counters": {
+        "all_counters": ["program"], "is_counter": ["program", "value"],
+        "Counters.__init__": ["self", "program", "*counters"], "Counters.listed": ["self"],
+        "Counters.of_ways": ["program", "*ways"], "Counters.everything": ["program"],
+    },
+}
+
+METHODS_BY_SIGN = {
+    "Program": ["__getitem__", "__contains__", "__len__", "__eq__", "begin"],
+    "Counters": ["__len__", "__contains__", "__add__", "__sub__", "__eq__", "program"],
+}
+
+GOOD_BUILTINS = """len range enumerate zip min max sum abs sorted reversed int str bool bytes list tuple dict set frozenset
+isinstance ord repr any all divmod iter next property staticmethod classmethod super Exception ValueError TypeError
+KeyError IndexError LookupError ZeroDivisionError ArithmeticError OverflowError RuntimeError NotImplementedError
+AttributeError StopIteration NotImplemented True False None""".split()
+
+GOOD_METHODS = """init eq repr str len enter exit call iter lt le gt ge ne add sub mul floordiv mod pow and or xor lshift
+rshift radd rsub rmul rfloordiv rmod rand ror rxor rlshift rrshift iadd isub imul ifloordiv imod ipow iand ior ixor
+ilshift irshift neg pos invert abs bool contains getitem setitem""".split()
+
+BAD_WORDS = """type typing typing_extensions enum Enum IntEnum StrEnum Flag IntFlag Generic Protocol ABC ABCMeta namedtuple
+NamedTuple TypedDict TYPE_CHECKING abstractmethod""".split()
+
+BAD_PARTS = ["dataclass", "overload", "contextmanager"]
+
+BAD_NODES = (ast.Global, ast.AsyncFunctionDef, ast.AsyncFor, ast.AsyncWith, ast.Await, ast.Import, ast.Div)
+
+
+def trees():
+    """Each file of the package with its tree."""
+    return [(path.name, ast.parse(path.read_text(encoding="ascii"))) for path in FILES]
+
+
+def nodes(*kinds):
+    """Each node of some kinds in the package, with the name of its file."""
+    return [(name, node) for name, tree in trees() for node in ast.walk(tree) if isinstance(node, kinds)]
+
+
+def bound_names():
+    """Each name that the package gives to a function, class, parameter or variable."""
+    found = [(name, node.name) for name, node in nodes(ast.FunctionDef, ast.ClassDef)]
+    found += [(name, node.arg) for name, node in nodes(ast.arg)]
+    return found + [(name, node.id) for name, node in nodes(ast.Name) if isinstance(node.ctx, ast.Store)]
+
+
+def parameters(function):
+    """The names of the parameters of a function, with a star where one stands."""
+    told = inspect.signature(function).parameters.values()
+    return [("*" if one.kind == one.VAR_POSITIONAL else "") + one.name for one in told]
+
+
+class InterfaceTests(unittest.TestCase):
+
+    def test_functions_and_methods_stand_in_their_files(self):
+        for file, functions in INTERFACE.items():
+            module = importlib.import_module(f"countededges.{file}")
+            for name, expected in functions.items():
+                owner = module
+                *around, last = name.split(".")
+                for part in around:
+                    owner = vars(owner)[part]
+                    self.assertEqual(owner.__module__, module.__name__)
+                self.assertIn(last, vars(owner), name)
+                self.assertEqual(parameters(inspect.getattr_static(owner, last)), expected, name)
+                self.assertEqual(getattr(owner, last).__module__, module.__name__)
+
+    def test_what_is_used_by_signs_stands_in_the_class_itself(self):
+        for file in INTERFACE:
+            module = importlib.import_module(f"countededges.{file}")
+            for name in METHODS_BY_SIGN:
+                if name in vars(module):
+                    for method in METHODS_BY_SIGN[name]:
+                        self.assertIn(method, vars(vars(module)[name]))
+
+
+class LanguageTests(unittest.TestCase):
+
+    def test_the_folder_holds_only_python_files(self):
+        held = [path.name for path in PACKAGE.iterdir() if path.name != "__pycache__"]
+        self.assertEqual(sorted(held), [path.name for path in FILES])
+        for name in held:
+            self.assertRegex(name, r"^([a-z][a-z0-9_]*|__init__|__main__)\.py$")
+
+    def test_lines_and_characters(self):
+        for path in FILES:
+            text = path.read_text(encoding="utf-8")
+            self.assertRegex(text, r"\A[ -~\n]*\Z")
+            self.assertLessEqual(len(text.splitlines()), 399, path.name)
+            self.assertLessEqual(max(len(line) for line in text.splitlines()), 120, path.name)
+
+    def test_functions_are_short(self):
+        for name, node in nodes(ast.FunctionDef):
+            self.assertLessEqual(node.end_lineno - node.lineno + 1, 40, (name, node.name))
+
+    def test_words_that_do_not_occur(self):
+        for path in FILES:
+            text = path.read_text(encoding="utf-8")
+            self.assertEqual([word for word in re.findall(r"\w+", text) if word in BAD_WORDS], [], path.name)
+            self.assertEqual([part for part in BAD_PARTS if part in text], [], path.name)
+
+    def test_statements_and_signs_that_do_not_occur(self):
+        self.assertEqual([(name, node.lineno) for name, node in nodes(*BAD_NODES) if hasattr(node, "lineno")], [])
+        self.assertEqual([name for name, node in nodes(ast.Div)], [])
+        for name, node in nodes(ast.Constant):
+            self.assertNotIsInstance(node.value, (float, complex))
+            self.assertNotIn("%", str(node.value))
+        for name, node in nodes(ast.arguments):
+            self.assertEqual(node.posonlyargs, [])
+
+    def test_imports_are_full_names_of_the_package(self):
+        for name, node in nodes(ast.ImportFrom):
+            self.assertEqual(node.level, 0)
+            self.assertTrue(node.module.startswith("countededges."), (name, node.module))
+            home = ast.parse((PACKAGE / f"{node.module.split('.')[1]}.py").read_text(encoding="utf-8"))
+            defined = [one.name for one in home.body if isinstance(one, (ast.FunctionDef, ast.ClassDef))]
+            defined += [one.targets[0].id for one in home.body if isinstance(one, ast.Assign)]
+            for one in node.names:
+                self.assertIn(one.name, defined)
+
+    def test_names_are_plain_and_no_builtins(self):
+        for name, bound in bound_names():
+            if bound.strip("_") in GOOD_METHODS and bound.startswith("__"):
+                continue
+            self.assertRegex(bound, r"^[A-Za-z][A-Za-z0-9_]*$", name)
+            self.assertFalse(hasattr(builtins, bound), (name, bound))
+
+    def test_only_listed_builtins_are_read(self):
+        for name, node in nodes(ast.Name):
+            if hasattr(builtins, node.id):
+                self.assertIn(node.id, GOOD_BUILTINS, name)
+
+    def test_decorators(self):
+        told = [(name, ast.unparse(one)) for name, node in nodes(ast.FunctionDef, ast.ClassDef)
+                for one in node.decorator_list]
+        for name, text in told:
+            self.assertRegex(text, r"^(property|staticmethod|classmethod|[a-z_]+\.setter)$", name)
+
+    def test_no_name_is_a_method_and_an_attribute(self):
+        classes = [node for name, node in nodes(ast.ClassDef)]
+        methods = {one.name for node in classes for one in node.body if isinstance(one, ast.FunctionDef)}
+        assigned = {node.attr for name, node in nodes(ast.Attribute) if isinstance(node.ctx, ast.Store)}
+        self.assertEqual(methods & assigned, set())
+        builtin_names = {one for kind in (str, int, list, dict, set, bytes) for one in dir(kind)}
+        self.assertEqual(assigned & builtin_names, set())
+
+    def test_what_stands_at_module_level(self):
+        for name, tree in trees():
+            for node in tree.body:
+                is_docstring = isinstance(node, ast.Expr) and isinstance(node.value, ast.Constant)
+                good = (ast.ImportFrom, ast.FunctionDef, ast.ClassDef, ast.Assign)
+                self.assertTrue(is_docstring or isinstance(node, good), (name, node.lineno))
+
+
+if __name__ == "__main__":
+    unittest.main()

@@ -1,7 +1,9 @@
 """Counters of a program, and sets of them."""
 
 from countededges.errors import BadArgument, BadCounter, BadWay
-from countededges.programs import require_program
+from countededges.programs import is_integer, require_program
+
+RUNS = ("runs",)
 
 
 def all_counters(program):
@@ -10,7 +12,12 @@ def all_counters(program):
     ways = [("way", way) for way in program.ways()]
     places = [("place", place) for place in program.places()]
     stops = [("stop", place) for place in program.exits()]
-    return [*ways, *places, *stops, ("runs",)]
+    return [*ways, *places, *stops, RUNS]
+
+
+def flow_counters(program):
+    """The list of the counters that have a value of their own in a flow: those of ways, of stops, and runs."""
+    return [counter for counter in all_counters(program) if counter[0] != "place"]
 
 
 def is_known(value, known):
@@ -19,6 +26,13 @@ def is_known(value, known):
     if not isinstance(value, tuple) or not all([isinstance(part, str) for part in value]):
         return False
     return value in known
+
+
+def is_table(value, known):
+    """Whether any value is a dict from just these counters to integers."""
+    if not isinstance(value, dict) or len(value) != len(known):
+        return False
+    return all([is_known(counter, known) and is_integer(number) for counter, number in value.items()])
 
 
 def is_counter(program, value):
@@ -92,3 +106,16 @@ def require_partner(one, other):
     """Raises BadArgument for any value that is no Counters of a program equal to that of one."""
     if not isinstance(other, Counters) or one.base != other.base:
         raise BadArgument(other)
+
+
+def require_counters(counters):
+    """Raises BadArgument for any value that is no Counters."""
+    if not isinstance(counters, Counters):
+        raise BadArgument(counters)
+
+
+def require_target(counters, target):
+    """Raises BadArgument for any value that is no Counters, BadCounter for any target that is none of its program."""
+    require_counters(counters)
+    if not is_counter(counters.program, target):
+        raise BadCounter(target)

@@ -1,6 +1,6 @@
 """Programs: places with ways between them, and the runs along these ways."""
 
-from countededges.errors import BadArgument, BadNumber, BadPlace, BadProgram, BadRun, BadWay
+from countededges.errors import BadArgument, BadNumber, BadPlace, BadProgram, BadRun, BadWay, Rings
 
 LETTERS = "abcdefghijklmnopqrstuvwxyz"
 MOST_LETTERS = 8
@@ -57,17 +57,27 @@ def reached_from(places, pairs):
     return found
 
 
-def shortest_path(links, source, goal):
-    """A shortest list of ways from one place to another one, empty if they are the same, or None."""
-    paths = {source: []}
-    waiting = [source]
-    while waiting and goal not in paths:
+def names_at(links):
+    """For each place from which links (from, to) lead the list of their names."""
+    leading = {}
+    for name in links:
+        leading.setdefault(links[name][0], []).append(name)
+    return leading
+
+
+def paths_from(links, start):
+    """For each place that can be come to from the start a shortest list of links, empty for the start itself."""
+    leading = names_at(links)
+    paths = {start: []}
+    waiting = [start]
+    while waiting:
         place = waiting.pop(0)
-        for way in links:
-            if links[way][0] == place and links[way][1] not in paths:
-                paths[links[way][1]] = [*paths[place], way]
-                waiting.append(links[way][1])
-    return paths.get(goal)
+        for name in leading.get(place, []):
+            goal = links[name][1]
+            if goal not in paths:
+                paths[goal] = [*paths[place], name]
+                waiting.append(goal)
+    return paths
 
 
 class Program:
@@ -143,9 +153,9 @@ class Program:
         """A list of ways that leads from a place back to it, or None if there is none."""
         for way in self.links:
             source, goal = self.links[way]
-            back = shortest_path(self.links, goal, source)
-            if back is not None:
-                return [way, *back]
+            paths = paths_from(self.links, goal)
+            if source in paths:
+                return [way, *paths[source]]
         return None
 
     @staticmethod
@@ -164,6 +174,13 @@ def require_program(program):
     """Raises BadArgument for any value that is no Program."""
     if not isinstance(program, Program):
         raise BadArgument(program)
+
+
+def require_no_rings(program):
+    """Raises Rings with a ring if a program has rings."""
+    ring = program.find_ring()
+    if ring is not None:
+        raise Rings(ring)
 
 
 def end_of(program, value):

@@ -25,11 +25,25 @@ INTERFACE = {
         "Counters.__init__": ["self", "program", "*counters"], "Counters.listed": ["self"],
         "Counters.of_ways": ["program", "*ways"], "Counters.everything": ["program"],
     },
+    "lots": {
+        "Lot.of": ["program", "*runs"], "Lot.counted": ["program", "counts"], "Lot.counts": ["self"],
+        "Lot.built": ["self"], "values_of": ["counters", "lot"],
+    },
+    "telling": {
+        "sum_for": ["counters", "target"], "tells": ["counters", "target"], "untold": ["counters"],
+        "flow_for": ["counters", "target"], "lots_for": ["counters", "target"], "Sum.shares": ["self"],
+        "Sum.levels": ["self"], "Sum.__call__": ["self", "values"],
+    },
+    "ones": {"twins": ["counters"], "twins_for": ["counters", "target"]},
+    "logs": {"log_of": ["counters", "run"], "log_twins": ["counters"]},
 }
 
 METHODS_BY_SIGN = {
     "Program": ["__getitem__", "__contains__", "__len__", "__eq__", "begin"],
     "Counters": ["__len__", "__contains__", "__add__", "__sub__", "__eq__", "program"],
+    "Lot": ["__getitem__", "__contains__", "__eq__", "__add__", "__iadd__", "__mul__", "__rmul__", "__imul__", "program",
+            "runs"],
+    "Sum": ["__call__", "target", "divisor"],
 }
 
 GOOD_BUILTINS = """len range enumerate zip min max sum abs sorted reversed int str bool bytes list tuple dict set frozenset

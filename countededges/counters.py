@@ -28,11 +28,23 @@ def is_known(value, known):
     return value in known
 
 
-def is_table(value, known):
-    """Whether any value is a dict from just these counters to integers."""
+def has_keys(value, known):
+    """Whether any value is a dict from just these counters to whatever."""
     if not isinstance(value, dict) or len(value) != len(known):
         return False
+    return all([is_known(counter, known) for counter in value])
+
+
+def is_table_within(value, known):
+    """Whether any value is a dict from some or all of these counters to integers."""
+    if not isinstance(value, dict):
+        return False
     return all([is_known(counter, known) and is_integer(number) for counter, number in value.items()])
+
+
+def is_table(value, known):
+    """Whether any value is a dict from just these counters to integers."""
+    return has_keys(value, known) and is_table_within(value, known)
 
 
 def is_counter(program, value):

@@ -52,6 +52,17 @@ def unlogged_edges(counters):
     return {counter: edges[counter] for counter in edges if counter != RUNS}
 
 
+def groups_joined(groups, edge):
+    """The groups of all points, each under the name of its group, with those of the two ends of an edge made one."""
+    one, other = groups[edge[0]], groups[edge[1]]
+    return {point: other if groups[point] == one else groups[point] for point in groups}
+
+
+def own_groups(edges):
+    """The groups of all points of some edges, each point in a group of its own."""
+    return {point: point for counter in edges for point in edges[counter]}
+
+
 def forks_of(program):
     """The list of the points from which several edges can lead: where places are left."""
     return [outlet_of(place) for place in program.places()]

@@ -26,13 +26,18 @@ def is_even(program, counts):
                 for place in program.places()])
 
 
-def hangs_apart(program, counts):
-    """Whether ways are taken that cannot be come to along ways that are taken, or without any run."""
-    taken = [program[way] for way in program.ways() if counts[("way", way)] != 0]
+def value_in(program, counts, counter):
+    """The value of a counter of the program, where the counts are a flow."""
+    return coming_to(program, counts, counter[1]) if counter[0] == "place" else counts[counter]
+
+
+def ways_apart(program, counts):
+    """The list of the ways that are taken and cannot be come to along ways that are taken, or without any run."""
+    taken = [way for way in program.ways() if counts[("way", way)] != 0]
     if counts[RUNS] == 0:
-        return len(taken) > 0
-    reached = reached_from([program.begin], taken)
-    return any([source not in reached for source, goal in taken])
+        return taken
+    reached = reached_from([program.begin], [program[way] for way in taken])
+    return [way for way in taken if program[way][0] not in reached]
 
 
 class Lot:
@@ -63,7 +68,7 @@ class Lot:
             raise NoLot("flow")
         if any([counts[counter] < 0 for counter in known]):
             raise NoLot("below")
-        if hangs_apart(program, counts):
+        if ways_apart(program, counts):
             raise NoLot("apart")
         return Lot(program, {counter: counts[counter] for counter in known})
 
@@ -84,7 +89,7 @@ class Lot:
     def __getitem__(self, at):
         if not is_counter(self.base, at):
             raise BadCounter(at)
-        return coming_to(self.base, self.tally, at[1]) if at[0] == "place" else self.tally[at]
+        return value_in(self.base, self.tally, at)
 
     def __iter__(self):
         raise TypeError("a lot is not iterated over: take its counts() or built()")

@@ -26,6 +26,13 @@ def is_among(value, words):
     return isinstance(value, str) and value in words
 
 
+def is_table_of(value, words):
+    """Whether any value is a dict from just these words to integers."""
+    if not isinstance(value, dict) or len(value) != len(words):
+        return False
+    return all([is_among(word, words) and is_integer(number) for word, number in value.items()])
+
+
 def is_link(value):
     """Whether any value is a tuple of two words."""
     return isinstance(value, tuple) and len(value) == 2 and is_word(value[0]) and is_word(value[1])

@@ -40,6 +40,9 @@ ODD_VALUES = [
     frozenset(["x"]), range(3), object(), len, str, lambda: "x", SOUR, SAME, KNOTTED, [SOUR], (SOUR,), (SAME, SAME),
 ]
 
+# Where an empty list, tuple or dict is right.
+ODD_FULL_VALUES = [value for value in ODD_VALUES if value.__class__ not in (list, tuple, dict) or value]
+
 
 def fork():
     """Two ways from a to b, and one back: it has rings."""

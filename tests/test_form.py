@@ -36,6 +36,19 @@ INTERFACE = {
     },
     "ones": {"twins": ["counters"], "twins_for": ["counters", "target"]},
     "logs": {"log_of": ["counters", "run"], "log_twins": ["counters"]},
+    "cheapest": {
+        "cost_of": ["counters", "costs"], "cheapest": ["program", "costs"], "wished": ["program", "costs", "*targets"],
+    },
+    "numbers": {
+        "Numbering.__init__": ["self", "program"], "Numbering.__call__": ["self", "run"],
+        "Numbering.run": ["self", "number"], "Numbering.all_runs": ["self"], "Numbering.moved": ["self", "levels"],
+        "Numbering.freed": ["self", "*ways"], "Numbering.quiet": ["self", "costs"], "Numbering.free": ["self"],
+    },
+    "values": {"judged": ["counters", "values"]},
+    "checker": {
+        "fits": ["paper", "counters"], "is_flow": ["program", "value"], "told_paper": ["counters", "target"],
+        "log_paper": ["counters"], "cheapest_paper": ["program", "costs"],
+    },
 }
 
 METHODS_BY_SIGN = {
@@ -44,6 +57,7 @@ METHODS_BY_SIGN = {
     "Lot": ["__getitem__", "__contains__", "__eq__", "__add__", "__iadd__", "__mul__", "__rmul__", "__imul__", "program",
             "runs"],
     "Sum": ["__call__", "target", "divisor"],
+    "Numbering": ["__getitem__", "__call__", "__eq__", "program", "many"],
 }
 
 GOOD_BUILTINS = """len range enumerate zip min max sum abs sorted reversed int str bool bytes list tuple dict set frozenset
@@ -54,6 +68,11 @@ AttributeError StopIteration NotImplemented True False None""".split()
 GOOD_METHODS = """init eq repr str len enter exit call iter lt le gt ge ne add sub mul floordiv mod pow and or xor lshift
 rshift radd rsub rmul rfloordiv rmod rand ror rxor rlshift rrshift iadd isub imul ifloordiv imod ipow iand ior ixor
 ilshift irshift neg pos invert abs bool contains getitem setitem""".split()
+
+# No `sort`: classes of the package have `__eq__` and `__len__`.
+GOOD_CALLS = """append clear copy count endswith extend find get index insert isalnum isalpha isdigit islower isspace isupper
+items join keys ljust lower lstrip partition pop remove replace reverse rfind rjust rpartition rsplit rstrip setdefault
+split splitlines startswith strip update upper values zfill bit_length""".split()
 
 BAD_WORDS = """type typing typing_extensions enum Enum IntEnum StrEnum Flag IntFlag Generic Protocol ABC ABCMeta namedtuple
 NamedTuple TypedDict TYPE_CHECKING abstractmethod""".split()
@@ -179,6 +198,47 @@ class LanguageTests(unittest.TestCase):
         self.assertEqual(methods & assigned, set())
         builtin_names = {one for kind in (str, int, list, dict, set, bytes) for one in dir(kind)}
         self.assertEqual(assigned & builtin_names, set())
+
+    def test_sums_and_the_like_take_lists(self):
+        for name, node in nodes(ast.Call):
+            if isinstance(node.func, ast.Name) and node.func.id in ("any", "all", "sum", "min", "max", "sorted"):
+                self.assertFalse([one for one in node.args if isinstance(one, ast.GeneratorExp)], (name, node.lineno))
+
+    def test_calls_with_stars_take_names(self):
+        for name, node in nodes(ast.Call):
+            for one in node.args:
+                if isinstance(one, ast.Starred):
+                    self.assertIsInstance(one.value, (ast.Name, ast.Attribute), (name, node.lineno))
+
+    def test_no_local_name_is_that_of_an_import_or_a_class(self):
+        for name, tree in trees():
+            taken = {one.name for node in ast.walk(tree) if isinstance(node, ast.ImportFrom) for one in node.names}
+            taken |= {node.name for node in ast.walk(tree) if isinstance(node, ast.ClassDef)}
+            bound = {node.arg for node in ast.walk(tree) if isinstance(node, ast.arg)}
+            bound |= {node.id for node in ast.walk(tree) if isinstance(node, ast.Name) and isinstance(node.ctx, ast.Store)}
+            self.assertEqual(taken & bound, set(), name)
+
+    def test_only_listed_methods_of_builtin_values_are_called(self):
+        own = {node.name for name, node in nodes(ast.FunctionDef)}
+        own |= {node.attr for name, node in nodes(ast.Attribute) if isinstance(node.ctx, ast.Store)}
+        for name, node in nodes(ast.Call):
+            if isinstance(node.func, ast.Attribute):
+                self.assertIn(node.func.attr, [*own, *GOOD_CALLS], (name, node.lineno))
+
+    def test_no_own_name_is_that_of_a_generator(self):
+        yielding = [node.name for name, node in nodes(ast.FunctionDef)
+                    if any(isinstance(one, (ast.Yield, ast.YieldFrom)) for one in ast.walk(node))]
+        names = [node.name for name, node in nodes(ast.FunctionDef)]
+        for one in yielding:
+            self.assertEqual(names.count(one), 1)
+            self.assertNotIn(one, GOOD_CALLS)
+
+    def test_every_import_is_used(self):
+        for name, tree in trees():
+            read = {node.id for node in ast.walk(tree) if isinstance(node, ast.Name)}
+            for node in ast.walk(tree):
+                for one in node.names if isinstance(node, ast.ImportFrom) else []:
+                    self.assertIn(one.name, read, name)
 
     def test_what_stands_at_module_level(self):
         for name, tree in trees():

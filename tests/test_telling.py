@@ -9,6 +9,7 @@ from countededges.errors import BadArgument, BadCounter, BadValues
 from countededges.lots import Lot, values_of
 from countededges.programs import Program
 from countededges.telling import Sum, flow_for, lots_for, sum_for, tells, untold
+from tests.points import even_rows, flow_value, is_told, own_counters, part
 from tests.samples import (
     ODD_VALUES, SAME, SOUR, Checks, all_programs, diamond, fork, great_programs, ladder, loop, maze, small_programs,
     some_runs, some_sets, split, wheel, words)
@@ -38,60 +39,6 @@ def programs():
 def cases(many=6):
     """Programs with some sets of their counters each."""
     return [(program, counters) for program in programs() for counters in some_sets(program, many)]
-
-
-def own_counters(program):
-    """The counters of ways, of stops, and runs."""
-    return [counter for counter in all_counters(program) if counter[0] != "place"]
-
-
-def part(program, counter, step):
-    """The part of a counter in a way, in a stop, or in runs, by point 7."""
-    if step[0] == "way":
-        return int(counter in (step, ("place", program[step[1]][1])))
-    if step == ("runs",):
-        return int(counter in (step, ("place", program.begin)))
-    return int(counter == step)
-
-
-def row_of(program, counter):
-    """The value of a counter for a flow, as the shares of the flow's own counters."""
-    return [part(program, counter, step) for step in own_counters(program)]
-
-
-def rank(rows):
-    """The rank of some rows of integers."""
-    left = [row for row in rows if any(row)]
-    found = 0
-    while left:
-        found += 1
-        pivot = left.pop()
-        at = next(at for at, number in enumerate(pivot) if number != 0)
-        left = [[one * pivot[at] - other * row[at] for one, other in zip(row, pivot)] for row in left]
-        left = [row for row in left if any(row)]
-    return found
-
-
-def even_rows(program):
-    """For each place what comes to it less what leaves it."""
-    rows = []
-    for place in program.places():
-        leaving = [("way", way) for way in program.leaving(place)] + [("stop", place)]
-        coming = row_of(program, ("place", place))
-        rows.append([one - int(step in leaving) for one, step in zip(coming, own_counters(program))])
-    return rows
-
-
-def is_told(counters, target):
-    """Whether each flow that is 0 for the set is 0 for the target, by the ranks of rows."""
-    program = counters.program
-    rows = [row_of(program, target), *even_rows(program), *[row_of(program, one) for one in counters.listed()]]
-    return rank(rows[1:]) == rank(rows)
-
-
-def flow_value(program, flow, counter):
-    """The value of a flow for a counter."""
-    return sum(flow[step] * part(program, counter, step) for step in own_counters(program))
 
 
 class TellingChecks(Checks):

@@ -25,6 +25,11 @@ def require_costs(program, costs):
         raise BadCosts(costs)
 
 
+def price_of(costs, chosen):
+    """The sum of the costs of some counters."""
+    return sum([costs[counter] for counter in chosen])
+
+
 def cost_of(counters, costs):
     """The sum of the costs of a set."""
     require_counters(counters)
@@ -32,7 +37,7 @@ def cost_of(counters, costs):
     for counter in counters.listed():
         if counter not in costs:
             raise BadCounter(counter)
-    return sum([costs[counter] for counter in counters.listed()])
+    return price_of(costs, counters.listed())
 
 
 def dearest_first(program, costs):
@@ -111,11 +116,11 @@ def wished(program, costs, *targets):
     # All other edges are the same for each choice, so the points that they join can be taken as one.
     edges = edges_between_groups(program, [*costs, *targets])
     choices = choices_of([at for at, counter in enumerate(known) if counter in costs])
-    priced = sorted([(sum([costs[known[at]] for at in choice]), choice) for choice in choices])
     least = None
     found = []
-    for price, choice in priced:
+    for choice in sorted(choices, key=lambda numbers: (price_of(costs, [known[at] for at in numbers]), numbers)):
         chosen = [known[at] for at in choice]
+        price = price_of(costs, chosen)
         if (least is None or price == least) and tells_each(edges, chosen, targets):
             least = price
             found.append(Counters(program, *chosen))

@@ -1,7 +1,7 @@
 """Counters of a program, and sets of them."""
 
 from countededges.errors import BadArgument, BadCounter, BadWay
-from countededges.programs import is_integer, require_program
+from countededges.programs import is_integer, is_word, require_program
 
 RUNS = ("runs",)
 
@@ -20,12 +20,24 @@ def flow_counters(program):
     return [counter for counter in all_counters(program) if counter[0] != "place"]
 
 
+def is_tuple_of_texts(value):
+    """Whether any value is a tuple of texts."""
+    return isinstance(value, tuple) and all([isinstance(part, str) for part in value])
+
+
+def has_counter_form(value):
+    """Whether any value has the form of a counter, of whatever program."""
+    if not is_tuple_of_texts(value):
+        return False
+    if len(value) != 2:
+        return value == RUNS
+    return value[0] in ("way", "place", "stop") and is_word(value[1])
+
+
 def is_known(value, known):
     """Whether any value is one of these counters."""
     # Only tuples of texts are compared: other values may compare in ways of their own.
-    if not isinstance(value, tuple) or not all([isinstance(part, str) for part in value]):
-        return False
-    return value in known
+    return is_tuple_of_texts(value) and value in known
 
 
 def has_keys(value, known):

@@ -49,6 +49,20 @@ INTERFACE = {
         "fits": ["paper", "counters"], "is_flow": ["program", "value"], "told_paper": ["counters", "target"],
         "log_paper": ["counters"], "cheapest_paper": ["program", "costs"],
     },
+    "changes": {
+        "changed_by": ["counters", "changes"], "least_changes": ["counters", "changes", "*targets"],
+    },
+    "notes": {
+        "write_note": ["thing"], "read_program": ["note"], "read_counters": ["program", "note"],
+        "write_counter": ["counter"], "read_counter": ["word"],
+    },
+    "sessions": {
+        "Session.__init__": ["self"], "Session.program_of": ["self", "name"], "Session.counters_of": ["self", "name"],
+        "Session.names": ["self"], "Session.add": ["self", "name", "counter"],
+        "Session.take": ["self", "name", "counter"], "Session.drop": ["self", "name"], "Session.undo": ["self"],
+        "Session.attempt": ["self", "deeds"], "Session.text": ["self"], "Session.read": ["text"],
+    },
+    "console": {"answer": ["session", "line"], "talk": ["session", "lines"]},
 }
 
 METHODS_BY_SIGN = {
@@ -58,6 +72,7 @@ METHODS_BY_SIGN = {
             "runs"],
     "Sum": ["__call__", "target", "divisor"],
     "Numbering": ["__getitem__", "__call__", "__eq__", "program", "many"],
+    "Session": ["__setitem__", "__getitem__", "__contains__", "__len__", "__enter__", "__exit__"],
 }
 
 GOOD_BUILTINS = """len range enumerate zip min max sum abs sorted reversed int str bool bytes list tuple dict set frozenset
@@ -209,6 +224,18 @@ class LanguageTests(unittest.TestCase):
             for one in node.args:
                 if isinstance(one, ast.Starred):
                     self.assertIsInstance(one.value, (ast.Name, ast.Attribute), (name, node.lineno))
+
+    def test_tables_at_module_level_are_only_read(self):
+        readers = ("list", "dict", "len", "sorted", "tuple", "enumerate")
+        for name, tree in trees():
+            tables = [node.targets[0].id for node in tree.body if isinstance(node, ast.Assign)
+                      and isinstance(node.value, (ast.Dict, ast.List))]
+            for node in ast.walk(tree):
+                passed = [*node.args, *node.keywords] if isinstance(node, ast.Call) else []
+                if passed and isinstance(node.func, ast.Name) and node.func.id in readers:
+                    continue
+                for one in passed:
+                    self.assertNotIn(getattr(one, "id", ""), tables, (name, node.lineno))
 
     def test_no_local_name_is_that_of_an_import_or_a_class(self):
         for name, tree in trees():

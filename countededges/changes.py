@@ -1,8 +1,9 @@
 """Changes of a set of counters and of the exits of its program, and the least of them that reach some targets."""
 
+from countededges.choices import choices_of
 from countededges.counters import Counters, has_counter_form, is_counter, require_counters
 from countededges.errors import BadChange, BadCounter, BadProgram
-from countededges.programs import Program, is_word
+from countededges.programs import Program, is_tuple_with, is_word
 from countededges.telling import tells
 
 MOST_CHANGES = 5
@@ -10,11 +11,9 @@ MOST_CHANGES = 5
 
 def has_change_form(value):
     """Whether any value has the form of a change."""
-    if not isinstance(value, tuple) or len(value) != 2 or not isinstance(value[0], str):
+    if not is_tuple_with(value, {"add": 2, "drop": 2, "exit": 2, "no exit": 2}):
         return False
-    if value[0] in ("add", "drop"):
-        return has_counter_form(value[1])
-    return value[0] in ("exit", "no exit") and is_word(value[1])
+    return has_counter_form(value[1]) if value[0] in ("add", "drop") else is_word(value[1])
 
 
 def with_exits(counters, exits):
@@ -97,10 +96,7 @@ def is_within(some, numbers):
 
 def sets_of_numbers(many):
     """The list of all ascending lists of numbers below so many, shorter ones first, then ascending."""
-    found = [[]]
-    for number in range(many):
-        found = found + [[*some, number] for some in found]
-    return sorted(found, key=lambda some: (len(some), some))
+    return sorted(choices_of(list(range(many))), key=lambda some: (len(some), some))
 
 
 def least_changes(counters, changes, *targets):

@@ -4,6 +4,7 @@ In the graph of countededges.edges a set tells all exactly if the edges that are
 cheapest set is what the dearest tree leaves over.
 """
 
+from countededges.choices import choices_of
 from countededges.counters import Counters, all_counters, is_counter, is_table_within, require_counters
 from countededges.edges import edges_of, groups_joined, own_groups
 from countededges.errors import BadCosts, BadCounter, NotTold, TooMany
@@ -87,12 +88,11 @@ def tells_each(edges, chosen, targets):
     return all([circle_of(free, target) is None for target in targets])
 
 
-def choices_of(numbers):
-    """The list of all lists that can be made by leaving out some of the numbers, or none."""
-    choices = [[]]
-    for number in numbers:
-        choices = choices + [[*choice, number] for choice in choices]
-    return choices
+def cheapest_first(known, costs):
+    """The list of all choices out of the counters that can be had, like ones ascending by the places in order."""
+    numbers = [at for at, counter in enumerate(known) if counter in costs]
+    choices = [(sum([costs[known[one]] for one in choice]), choice) for choice in choices_of(numbers)]
+    return [[known[number] for number in chosen] for price, chosen in sorted(choices)]
 
 
 def require_targets(program, costs, targets):
@@ -115,13 +115,11 @@ def wished(program, costs, *targets):
     known = all_counters(program)
     # All other edges are the same for each choice, so the points that they join can be taken as one.
     edges = edges_between_groups(program, [*costs, *targets])
-    choices = choices_of([at for at, counter in enumerate(known) if counter in costs])
     least = None
     found = []
-    for choice in sorted(choices, key=lambda numbers: (price_of(costs, [known[at] for at in numbers]), numbers)):
-        chosen = [known[at] for at in choice]
-        price = price_of(costs, chosen)
-        if (least is None or price == least) and tells_each(edges, chosen, targets):
+    for choice in cheapest_first(known, costs):
+        price = price_of(costs, choice)
+        if (least is None or price == least) and tells_each(edges, choice, targets):
             least = price
-            found.append(Counters(program, *chosen))
+            found.append(Counters(program, *choice))
     return found

@@ -5,7 +5,7 @@ from countededges.counters import (
     RUNS, Counters, all_counters, flow_counters, has_keys, is_counter, is_table, is_table_within, require_counters)
 from countededges.logs import log_of, log_twins
 from countededges.lots import Lot, is_even, value_in, values_of
-from countededges.programs import is_integer, is_run, is_table_of, require_program
+from countededges.programs import is_integer, is_run, is_table_of, is_tuple_with, require_program
 from countededges.telling import flow_for, sum_for
 
 
@@ -133,9 +133,7 @@ LENGTHS = {"told": 5, "not told": 3, "two runs": 3, "one count": 4, "same log": 
 def fits(paper, counters):
     """Whether any value is a right paper of a set of counters."""
     require_counters(counters)
-    if not isinstance(paper, tuple) or not paper or not isinstance(paper[0], str):
-        return False
-    if paper[0] not in CHECKS or len(paper) != LENGTHS[paper[0]]:
+    if not is_tuple_with(paper, dict(LENGTHS)):
         return False
     check = CHECKS[paper[0]]
     rest = paper[1:]

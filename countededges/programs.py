@@ -26,6 +26,13 @@ def is_among(value, words):
     return isinstance(value, str) and value in words
 
 
+def is_tuple_with(value, lengths):
+    """Whether any value is a tuple that begins with a word of a dict, and is as long as the dict says."""
+    if not isinstance(value, tuple) or not value or not is_among(value[0], lengths):
+        return False
+    return len(value) == lengths[value[0]]
+
+
 def is_table_of(value, words):
     """Whether any value is a dict from just these words to integers."""
     if not isinstance(value, dict) or len(value) != len(words):

@@ -5,7 +5,7 @@ from countededges.counters import Counters
 from countededges.errors import (
     BadArgument, BadCounter, BadName, BadText, CountError, FailedDeed, NameTaken, NothingToUndo, UnknownName)
 from countededges.notes import read_counters, read_program, write_note
-from countededges.programs import Program, is_among, is_word
+from countededges.programs import Program, is_among, is_tuple_with, is_word
 
 
 def thing_in(kept, name):
@@ -73,13 +73,6 @@ def taken_in(kept, name, counter):
 
 DEEDS = {"put": put_in, "drop": dropped_from, "add": added_in, "take": taken_in}
 LENGTHS = {"put": 3, "drop": 2, "add": 3, "take": 3}
-
-
-def is_deed(value):
-    """Whether any value is a tuple of the form of a deed."""
-    if not isinstance(value, tuple) or not value or not isinstance(value[0], str):
-        return False
-    return value[0] in LENGTHS and len(value) == LENGTHS[value[0]]
 
 
 def done_in(kept, deed):
@@ -197,7 +190,7 @@ class Session:
 
     def attempt(self, deeds):
         """Does all deeds of a list as one step, or none of them."""
-        if not isinstance(deeds, list) or not all([is_deed(deed) for deed in deeds]):
+        if not isinstance(deeds, list) or not all([is_tuple_with(deed, dict(LENGTHS)) for deed in deeds]):
             raise BadArgument(deeds)
         kept = self.kept
         for at, deed in enumerate(deeds):

@@ -282,7 +282,7 @@ class CommandTests(ConsoleChecks):
     def test_values_that_are_no_commands(self):
         session = filled()
         before = session.text()
-        for value in [*[one for one in ODD_FULL_VALUES], [], (), {}, 0, b"names", ["names"], ("names",), session]:
+        for value in [*ODD_FULL_VALUES, [], (), {}, 0, b"names", ["names"], ("names",), session]:
             self.fails(BadCommand, value, answer, session, value)
             self.fails(BadCommand, value, answer, line=value, session=session)
         self.assertEqual(session.text(), before)

@@ -376,7 +376,7 @@ class AttemptTests(SessionChecks):
 
     def test_values_that_are_no_lists(self):
         session = filled()
-        for value in [*[one for one in ODD_FULL_VALUES], (), {}, 0, "drop p", (("drop", "p"),), {("drop", "p"): 1},
+        for value in [*ODD_FULL_VALUES, (), {}, 0, "drop p", (("drop", "p"),), {("drop", "p"): 1},
                       ("drop", "p")]:
             self.fails_as_before(BadArgument, value, session, session.attempt, value)
         self.assertEqual(steps_in(session), 4)

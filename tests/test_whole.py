@@ -4,8 +4,8 @@ import copy
 import types
 import unittest
 
-from countededges import changes, checker, cheapest, console, counters, errors, logs, lots, notes, numbers, ones
-from countededges import programs, sessions, telling, values
+from countededges import (
+    changes, checker, cheapest, console, counters, errors, logs, lots, notes, ones, programs, telling, values)
 from countededges.counters import Counters, all_counters
 from countededges.lots import Lot
 from countededges.numbers import Numbering
@@ -83,8 +83,7 @@ def deeds():
     return [("put", "q", fork()), ("add", "n", ("way", "y"))]
 
 
-# Each call of the interface with arguments by the names of its parameters, made anew for each call; the method's own
-# object, if there is one, comes first. Those that also take any number of further values have them behind.
+# Each call of the interface, and its arguments by the names of its parameters, made anew for each call.
 CALLS = {
     "programs.is_word": (programs.is_word, lambda: {"value": "x"}),
     "programs.Program": (Program, lambda: {"ways": {"x": ("a", "b")}, "begin": "a", "exits": ["b"]}),
